@@ -27,7 +27,7 @@ func divideLong(a, b []uint32) (q, r []uint32) {
 		guess := guessLimb(part, divisor)
 		if takeTimes(part, divisor, guess) {
 			guess--
-			// What is carried out, and lost, makes good what was borrowed.
+			// What is carried out makes good what was borrowed.
 			addInto(part, divisor)
 		}
 		q[j] = guess

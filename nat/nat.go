@@ -14,12 +14,12 @@ func Add(a, b []uint32, more ...[]uint32) []uint32 {
 	for _, m := range more {
 		longest = max(longest, len(m))
 	}
-	// One limb more is enough for the carries of fewer than 2^32 numbers.
-	sum := make([]uint32, longest+1)
-	addInto(sum, a)
-	addInto(sum, b)
+	// Room for a carry saves the sums of fewer than 2^32 numbers from being moved.
+	sum := make([]uint32, longest, longest+1)
+	sum = addGrowing(sum, a)
+	sum = addGrowing(sum, b)
 	for _, m := range more {
-		addInto(sum, m)
+		sum = addGrowing(sum, m)
 	}
 	return trim(sum)
 }
@@ -106,8 +106,16 @@ func clone(a []uint32) []uint32 {
 	return c
 }
 
-// addInto adds a to sum, in place; what is carried out of sum is lost. Sum is at least as long as a.
-func addInto(sum, a []uint32) {
+// addGrowing adds a to sum, in sum's memory while there is room. A sum of very many numbers outgrows any room that is set aside ahead, so that it grows by each carry that leaves it. Sum is at least as long as a.
+func addGrowing(sum, a []uint32) []uint32 {
+	if carry := addInto(sum, a); carry != 0 {
+		sum = append(sum, carry)
+	}
+	return sum
+}
+
+// addInto adds a to sum, in place, and answers what is carried out of it. Sum is at least as long as a.
+func addInto(sum, a []uint32) uint32 {
 	var carry uint32
 	for i, limb := range a {
 		sum[i], carry = bits.Add32(sum[i], limb, carry)
@@ -115,6 +123,7 @@ func addInto(sum, a []uint32) {
 	for i := len(a); carry != 0 && i < len(sum); i++ {
 		sum[i], carry = bits.Add32(sum[i], 0, carry)
 	}
+	return carry
 }
 
 // takeFrom takes b from a, in place. A is not below b, and at least as long.
