@@ -79,8 +79,17 @@ func alikeParts(a, b api.Datum) bool {
 	return slices.EqualFunc(x[0], y[0], alike) && slices.EqualFunc(x[1], y[1], alike)
 }
 
-// copied is a datum in new memory. Data may be deeper than calls go, so those whose lists are still the old ones are kept in a list.
+// copied is a datum in new memory.
 func copied(d api.Datum) api.Datum {
+	if d.Items == nil && d.Rest == nil {
+		d.Num.Mag = fresh(d.Num.Mag)
+		return d
+	}
+	return copiedLists(d)
+}
+
+// copiedLists copies a datum that has lists. Data may be deeper than calls go, so those whose lists are still the old ones are kept in a list.
+func copiedLists(d api.Datum) api.Datum {
 	old := []*api.Datum{&d}
 	for len(old) > 0 {
 		at := old[len(old)-1]

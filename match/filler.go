@@ -35,8 +35,16 @@ func (f *filler) whole(d api.Datum) (api.Datum, api.Errno) {
 	return copied(d), api.OK
 }
 
-// countAll counts a datum with all in it; false, if that is more than may come. Data may be deeper than calls go, so rows that are still to be counted are kept in a list.
+// countAll counts a datum with all in it; false, if that is more than may come.
 func (f *filler) countAll(d api.Datum) bool {
+	if len(d.Items) == 0 && len(d.Rest) == 0 {
+		return f.count(1)
+	}
+	return f.countLists(d)
+}
+
+// countLists counts a datum that has lists. Data may be deeper than calls go, so rows that are still to be counted are kept in a list.
+func (f *filler) countLists(d api.Datum) bool {
 	rows := [][]api.Datum{{d}}
 	for len(rows) > 0 {
 		last := rows[len(rows)-1]

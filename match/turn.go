@@ -1,6 +1,10 @@
 package match
 
-import "tandem/api"
+import (
+	"slices"
+
+	"tandem/api"
+)
 
 // turn is an ellipsis on its way through the Subs of the binds that are deep in its part.
 type turn struct {
@@ -18,6 +22,8 @@ func (f *filler) repeat(whole, part *piece, out *api.Datum) api.Errno {
 				return api.ErrMatch
 			}
 			within = append(within, t)
+			// Long rows would be copied again and again while they grow.
+			out.Items = slices.Grow(out.Items, min(t.all, f.left))
 		} else if e := f.add(whole, part, out); e != api.OK {
 			return e
 		}
