@@ -1,6 +1,8 @@
 package emit_test
 
 import (
+	"reflect"
+	"strings"
 	"testing"
 
 	"tandem/api"
@@ -178,7 +180,7 @@ func TestConstants(t *testing.T) {
 		{[]api.Core{integer(false), integer(true), integer(false, 0), integer(true, 0, 0), char(0), data(boolean(0)), void}, "'0 '#\\nul '#f '#<void>"},
 		{[]api.Core{char(1), data(whole(1)), data(boolean(1)), char(1), data(symbol("1")), void, data(text("1")), void}, "'#\\x01 '1 '#t '1 '#<void> '\"1\""},
 		{[]api.Core{data(api.Datum{Kind: api.Symbol, N: 3, Text: "a"}), data(symbol("a")), data(api.Datum{Kind: api.Symbol, N: -1}), rec([]int{0}, data(symbol("")), local(0))}, "'mark3a 'a 'mark-1 '"},
-		{[]api.Core{data(api.Datum{Kind: api.Proc, N: 38, Text: "x"}), prim("car"), data(api.Datum{Kind: api.Proc, N: 38}), data(api.Datum{Kind: api.Proc, N: 38, Text: "x"})}, "'prim38x 'prim38"},
+		{[]api.Core{data(api.Datum{Kind: api.Proc, N: 38, Text: "x"}), prim("car"), data(api.Datum{Kind: api.Proc, N: 38}), data(api.Datum{Kind: api.Proc, N: 38, Text: "x"})}, "'prim38x"},
 		{[]api.Core{data(condition(whole(1), list(symbol("a")))), data(condition(whole(1))), data(condition(whole(1), list(symbol("a")))), data(condition(whole(1), list(symbol("b")))), data(condition(whole(1), dotted(symbol("a")))), data(condition(whole(1), vector(symbol("a"))))}, "'#<condition type 1 (a)> '#<condition type 1> '#<condition type 1 (b)> '#<condition type 1 a> '#<condition type 1 #(a)>"},
 	} {
 		var got string
@@ -190,6 +192,61 @@ func TestConstants(t *testing.T) {
 		}
 		if got != x.want {
 			t.Errorf("%s: %s, not %s", brief(x.cores), got, x.want)
+		}
+	}
+}
+
+// fieldByField are data of each kind, those that are none too, of which each pair parts in one field or in several.
+func fieldByField() []api.Datum {
+	var all []api.Datum
+	for kind := range 13 {
+		plain := api.Datum{Kind: kind - 1, N: 3, Num: whole(5).Num, Text: "x", Items: []api.Datum{whole(1)}, Rest: []api.Datum{whole(2)}}
+		n, size, name, items, rest := plain, plain, plain, plain, plain
+		n.N, size.Num, name.Text = 4, whole(6).Num, "y"
+		items.Items, rest.Rest = []api.Datum{whole(7)}, []api.Datum{whole(7)}
+		empty := api.Datum{Kind: kind - 1}
+		all = append(all, plain, n, size, name, items, rest, empty, condition(plain), condition(n), condition(name), condition(list(name)))
+	}
+	return all
+}
+
+// A constant is the one that is there just if layer 7 calls them alike; the first one stands.
+func TestAlikeIsLayerSevens(t *testing.T) {
+	all := fieldByField()
+	for _, a := range all {
+		for _, b := range all {
+			want := []api.Datum{a, b}
+			if alike(a, b) {
+				want = want[:1]
+			}
+			p := made(t, data(a), data(b))[0]
+			if !reflect.DeepEqual(p.Consts, want) || p.Code[2].A != len(want)-1 {
+				t.Fatalf("%+v, %+v: %+v, %s", a, b, p.Consts, toldCode(p))
+			}
+		}
+	}
+}
+
+// Of a Proc its number alone counts, whatever its name is.
+func TestProcsOfOneNumber(t *testing.T) {
+	proc := func(n int, name string) api.Core { return data(api.Datum{Kind: api.Proc, N: n, Text: name}) }
+	for _, x := range []struct {
+		cores  []api.Core
+		code   string
+		consts string
+	}{
+		{[]api.Core{proc(3, "x"), proc(3, "y")}, "const 0, pop, const 0, return", "prim3x"},
+		{[]api.Core{proc(3, "x"), prim("=")}, "const 0, pop, const 0, return", "prim3x"},
+		{[]api.Core{prim("="), proc(3, "x")}, "const 0, pop, const 0, return", "prim3"},
+		{[]api.Core{proc(3, "x"), proc(4, "x")}, "const 0, pop, const 1, return", "prim3x prim4x"},
+	} {
+		p := made(t, x.cores...)[0]
+		var consts []string
+		for _, d := range p.Consts {
+			consts = append(consts, toldDatum(d))
+		}
+		if toldCode(p) != x.code || strings.Join(consts, " ") != x.consts {
+			t.Errorf("%s: %s, %v", brief(x.cores), toldCode(p), consts)
 		}
 	}
 }

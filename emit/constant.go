@@ -46,26 +46,26 @@ func isAlone(d api.Datum) bool {
 	return d.Kind == api.List || d.Kind == api.Vector || d.Kind == api.String
 }
 
-// spell appends a datum as bytes: those of two data are the same, if these are of one kind, and all is alike that their kind has. (A procedure's name counts: a primitive's constant has none.)
+// spell appends a datum as bytes: those of two data are the same, if layer 7 calls them alike. (Of a procedure N alone counts, not its name; of a kind that is none nothing does.)
 func spell(out []byte, d api.Datum) []byte {
 	out = spellNumber(out, d.Kind)
 	switch d.Kind {
-	case api.Void:
-		return out
 	case api.Int:
 		return spellNum(out, d.Num)
+	case api.Bool, api.Char, api.Proc:
+		return spellNumber(out, d.N)
+	case api.String:
+		return spellText(out, d.Text)
+	case api.Symbol:
+		return spellText(spellNumber(out, d.N), d.Text)
 	case api.List:
 		return spellAll(spellAll(out, d.Items), restOf(d))
 	case api.Vector:
 		return spellAll(out, d.Items)
 	case api.Cond:
 		return spellAll(spellText(out, d.Text), d.Items)
-	case api.String:
-		return spellText(out, d.Text)
-	case api.Bool, api.Char:
-		return spellNumber(out, d.N)
 	}
-	return spellText(spellNumber(out, d.N), d.Text)
+	return out
 }
 
 func spellNumber(out []byte, n int) []byte {

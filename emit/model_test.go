@@ -447,5 +447,5 @@ func alike(a, b api.Datum) bool {
 		return ok
 	}
 	_, ok := match.Match(a, b)
-	return ok && (a.Kind != api.Proc || a.Text == b.Text)
+	return ok
 }
