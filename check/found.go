@@ -64,32 +64,43 @@ func (f *found) look(pc int) api.Errno {
 	return f.goOn(pc, left+n.pushes)
 }
 
+// goOn reaches the instructions that one goes on to. Whether they are there is asked of all of them ahead of any depth, so that a way out of the code is told though the other way parts in depth.
 func (f *found) goOn(pc, depth int) api.Errno {
-	i := f.Code[pc]
-	n := f.needs[i.Op]
-	if !n.ends {
-		if e := f.reach(pc+1, depth); e != api.OK {
-			return e
+	ways := f.ways(pc)
+	for _, to := range ways {
+		if !isWithin(to, 0, len(f.Code)-1) {
+			return api.ErrJump
 		}
 	}
-	if n.a == aPlace {
-		return f.reach(i.A, depth)
+	for _, to := range ways {
+		if !f.reach(to, depth) {
+			return api.ErrStack
+		}
 	}
 	return api.OK
 }
 
-// reach comes to an instruction with a depth, which must be the one that was found there ahead, if any was.
-func (f *found) reach(pc, depth int) api.Errno {
-	switch {
-	case !isWithin(pc, 0, len(f.Code)-1):
-		return api.ErrJump
-	case f.depths[pc] < 0:
+// ways are the places that an instruction goes on to, the next one ahead of a jump's.
+func (f *found) ways(pc int) []int {
+	i := f.Code[pc]
+	n := f.needs[i.Op]
+	var ways []int
+	if !n.ends {
+		ways = append(ways, pc+1)
+	}
+	if n.a == aPlace {
+		ways = append(ways, i.A)
+	}
+	return ways
+}
+
+// reach comes to an instruction with a depth; false, if another one was found there ahead.
+func (f *found) reach(pc, depth int) bool {
+	if f.depths[pc] < 0 {
 		f.depths[pc] = depth
 		f.todo.put(pc)
-	case f.depths[pc] != depth:
-		return api.ErrStack
 	}
-	return api.OK
+	return f.depths[pc] == depth
 }
 
 // wrongOperands tells what is wrong with an instruction, whatever the frame is.

@@ -185,13 +185,14 @@ func (m *model) stack(pc, wants, more int) api.Errno {
 	case api.OpFalse:
 		ways = append(ways, i.A)
 	}
+	if slices.ContainsFunc(ways, func(to int) bool { return to < 0 || to >= len(m.p.Code) }) {
+		return api.ErrJump
+	}
 	for _, to := range ways {
-		if to < 0 || to >= len(m.p.Code) {
-			return api.ErrJump
-		}
 		if d, ok := m.depths[to]; ok && d != depth+more {
 			return api.ErrStack
-		} else if !ok {
+		}
+		if _, ok := m.depths[to]; !ok {
 			m.depths[to], m.open[to] = depth+more, true
 		}
 	}

@@ -24,16 +24,23 @@ func TestOrderInAnInstruction(t *testing.T) {
 	})
 }
 
-// Of where it goes: what goes out of the code, then the depth there; of OpFalse both of the next instruction ahead of both of A.
+// Of where it goes: what goes out of the code, whichever way it is, then the depths there.
 func TestOrderOfWays(t *testing.T) {
 	hold(t, []row{
-		// At 4 an OpFalse with depth 0 behind it, where the depth of the next instruction was found as 0, and as 1.
+		// An OpFalse whose next instruction was found ahead, with the same depth, and with another one.
 		{"const 0, false 5, const 0, loop, false 99, jump 5", 4, api.ErrJump},
-		{"const 0, false 6, const 0, const 0, loop, false 99, jump 6", 5, api.ErrStack},
-		{"const 0, false 6, const 0, const 0, loop, false -1, jump 6", 5, api.ErrStack},
+		{"const 0, false 6, const 0, const 0, loop, false 99, jump 6", 5, api.ErrJump},
+		{"const 0, false 6, const 0, const 0, loop, false 7, jump 6", 5, api.ErrJump},
+		{"const 0, false 6, const 0, const 0, loop, false -1, jump 6", 5, api.ErrJump},
 		{"const 0, false 6, const 0, const 0, loop, false 0, jump 6", 5, api.ErrStack},
+		{"const 0, false 6, const 0, const 0, loop, false 6, jump 6", 5, api.ErrStack},
+		// Whose A was found ahead, with another depth, and whose next one is not there, or not yet found.
 		{"const 0, const 0, false 0", 2, api.ErrJump},
 		{"const 0, const 0, false 0, jump 3", 2, api.ErrStack},
+		{"const 0, const 0, false 99, jump 3", 2, api.ErrJump},
+		// Neither is there.
+		{"const 0, false 2", 1, api.ErrJump},
+		{"const 0, false -1", 1, api.ErrJump},
 	})
 }
 
