@@ -1,18 +1,34 @@
 package base
 
-import "tandem/prim"
+import (
+	"tandem/api"
+	"tandem/prim"
+)
 
-// controlPrimitives are what the control primitives do with the arguments at hand, of which there are as many as they take.
-func (m *Machine) controlPrimitives() map[int]func() {
-	return map[int]func(){
-		prim.Number("apply"):                  m.apply,
-		prim.Number("call/cc"):                m.callWithContinuation,
-		prim.Number("dynamic-wind"):           m.dynamicWind,
-		prim.Number("with-exception-handler"): m.withHandler,
-		prim.Number("raise"):                  m.raiseIt,
-		prim.Number("raise-continuable"):      m.raiseContinuable,
-		prim.Number("error"):                  m.raiseError,
+// control is a control primitive, and what it does with the arguments at hand, of which there are as many as it takes.
+type control struct {
+	api.Prim
+	do func()
+}
+
+// controlPrimitives are the control primitives by their numbers.
+func (m *Machine) controlPrimitives() map[int]control {
+	deeds := map[string]func(){
+		"apply":                  m.apply,
+		"call/cc":                m.callWithContinuation,
+		"dynamic-wind":           m.dynamicWind,
+		"with-exception-handler": m.withHandler,
+		"raise":                  m.raiseIt,
+		"raise-continuable":      m.raiseContinuable,
+		"error":                  m.raiseError,
 	}
+	all := map[int]control{}
+	for name, do := range deeds {
+		n := prim.Number(name)
+		p, _ := prim.Get(n)
+		all[n] = control{p, do}
+	}
+	return all
 }
 
 // What the machine waits for in frames of its own: these stand in the place of a proto's number.
@@ -38,33 +54,21 @@ func (m *Machine) waitings() map[int]func() {
 }
 
 func (m *Machine) enterControl(n int) {
-	p, _ := prim.Get(n)
-	if len(m.args) < p.Least || p.Most >= 0 && len(m.args) > p.Most {
-		m.wrong(arityClass, p.Name)
+	c := m.controls[n]
+	if !c.takes(len(m.args)) {
+		m.wrong(arityClass, c.Name)
 		return
 	}
-	m.controls[n]()
+	c.do()
 }
+
+// takes tells whether it takes so many arguments.
+func (c control) takes(n int) bool { return n >= c.Least && (c.Most < 0 || n <= c.Most) }
 
 // is asks a primitive that lays nothing and takes any one value whether it is so of w.
 func (m *Machine) is(predicate string, w uint64) bool {
 	yes, _, _ := prim.Do(m.Store, prim.Number(predicate), w)
 	return yes == trueWord
-}
-
-// apply hands the items of its last argument on, one by one.
-func (m *Machine) apply() {
-	last := len(m.args) - 1
-	list := m.args[last]
-	if !m.is("list?", list) {
-		m.wrong(typeClass, "apply")
-		return
-	}
-	args := append([]uint64{}, m.args[1:last]...)
-	for ; list != emptyList; list = m.field(list, cdrField) {
-		args = append(args, m.field(list, carField))
-	}
-	m.ask(m.args[0], args...)
 }
 
 func (m *Machine) withHandler() {

@@ -26,7 +26,7 @@ type Machine struct {
 	handlers uint64 // a list, the first one that is asked first
 	winds    uint64 // the innermost wind, or the empty list
 	does     map[int]func(in api.Ins)
-	controls map[int]func()
+	controls map[int]control
 	waits    map[int]func()
 	bounds
 	outcome api.Outcome

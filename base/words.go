@@ -18,6 +18,7 @@ const (
 
 // Kinds of objects. Continuations, and those from windKind on, are the machine's own.
 const (
+	pairKind         = 1
 	closureKind      = 6
 	boxKind          = 7
 	continuationKind = 8
