@@ -4,6 +4,7 @@ import (
 	"slices"
 
 	"tandem/api"
+	"tandem/rcode"
 )
 
 // flow tells where what registers hold comes from. Instructions stand in rows: a way leads into a row at its head alone. An origin is an instruction that writes a register, or a meeting; these are numbered behind the instructions.
@@ -32,10 +33,10 @@ func (f *folder) flow() flow {
 func headsOf(ins []api.RIns) []int {
 	isHead := make([]bool, len(ins)+1)
 	for i, in := range ins {
-		if to := target(in); to != none {
-			isHead[to] = true
+		if to := rcode.Place(&in); to != nil {
+			isHead[*to] = true
 		}
-		if in.Op == api.RJump || isEnd(in) {
+		if !rcode.GoesOn(in.Op) {
 			isHead[i+1] = true
 		}
 	}

@@ -4,6 +4,7 @@ import (
 	"slices"
 
 	"tandem/api"
+	"tandem/rcode"
 )
 
 // folder is code that is being made shorter.
@@ -25,24 +26,10 @@ func folderOf(ps []api.Proto, c api.Code) *folder {
 		place(f.raws, n, i)
 	}
 	for _, e := range c.Exits {
-		f.exits = append(f.exits, registersOf(e))
+		f.exits = append(f.exits, rcode.OfExit(e))
 	}
 	f.not = slices.IndexFunc(api.Prims(), func(p api.Prim) bool { return p.Name == "not" })
 	return f
-}
-
-// registersOf are the registers that an exit reads.
-func registersOf(e api.Exit) []int {
-	var all []int
-	for _, frame := range e.Frames {
-		for _, l := range append([]api.Loc{frame.Self}, frame.Slots...) {
-			if l.Kind == api.InReg || l.Kind == api.InRaw {
-				all = append(all, l.N)
-			}
-		}
-	}
-	slices.Sort(all)
-	return slices.Compact(all)
 }
 
 // place keeps where a key stands first; where that is, is answered.
@@ -85,8 +72,8 @@ func (f *folder) keep(isWanted func(i int) bool) {
 	}
 	f.Ins = kept(f.Ins, isWanted)
 	for i := range f.Ins {
-		if to := target(f.Ins[i]); to != none {
-			turnTo(&f.Ins[i], places[to])
+		if to := rcode.Place(&f.Ins[i]); to != nil {
+			*to = places[*to]
 		}
 	}
 }

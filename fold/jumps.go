@@ -1,13 +1,16 @@
 package fold
 
-import "tandem/api"
+import (
+	"tandem/api"
+	"tandem/rcode"
+)
 
 // straighten lets jumps go straight to where they end, and leaves out what does nothing.
 func (f *folder) straighten() {
 	ends := endsOf(f.Ins)
 	for i := range f.Ins {
-		if to := target(f.Ins[i]); to != none {
-			turnTo(&f.Ins[i], ends[to])
+		if to := rcode.Place(&f.Ins[i]); to != nil {
+			*to = ends[*to]
 		}
 	}
 	next := make([]int, len(f.Ins)+1) // of each place, the first one from there on that stays
@@ -27,11 +30,11 @@ func (f *folder) isIdle(i int, ends, next []int) bool {
 	if in.Op == api.RMove {
 		return in.A == in.B
 	}
-	to := target(in)
-	if to > i && next[to] == next[i+1] {
-		return true
+	to := rcode.Place(&in)
+	if to == nil {
+		return false
 	}
-	return in.Op == api.RIf && ends[i+1] == to
+	return *to > i && next[*to] == next[i+1] || in.Op == api.RIf && ends[i+1] == *to
 }
 
 // endsOf are, of each place, where a run that comes there is when it has jumped as long as it only jumps. Where jumps go round, that is one of them, the same for all that lead there.

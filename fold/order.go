@@ -1,6 +1,9 @@
 package fold
 
-import "tandem/api"
+import (
+	"tandem/api"
+	"tandem/rcode"
+)
 
 // order is an order of instructions in which fewer of them jump.
 type order struct {
@@ -31,8 +34,8 @@ func (f *folder) glue() {
 	var ins []api.RIns
 	for _, i := range o.row {
 		in := f.Ins[i]
-		if to := target(in); to != none {
-			turnTo(&in, o.places[to])
+		if to := rcode.Place(&in); to != nil {
+			*to = o.places[*to]
 		}
 		ins = append(ins, in)
 	}
@@ -41,7 +44,7 @@ func (f *folder) glue() {
 
 // begins tells whether nothing goes on at a place from the one ahead of it.
 func (o *order) begins(i int) bool {
-	return i == 0 || o.ins[i-1].Op == api.RJump || isEnd(o.ins[i-1])
+	return i == 0 || !rcode.GoesOn(o.ins[i-1].Op)
 }
 
 // put puts instructions from a place on, up to where they end.
@@ -54,7 +57,7 @@ func (o *order) put(i int) {
 			continue
 		}
 		o.row = append(o.row, i)
-		if in.Op == api.RJump || isEnd(in) {
+		if !rcode.GoesOn(in.Op) {
 			return
 		}
 		i++
@@ -66,10 +69,10 @@ func solesOf(ins []api.RIns) []bool {
 	ways := make([]int, len(ins)+1)
 	ways[0]++
 	for i, in := range ins {
-		if to := target(in); to != none {
-			ways[to]++
+		if to := rcode.Place(&in); to != nil {
+			ways[*to]++
 		}
-		if in.Op != api.RJump && !isEnd(in) {
+		if rcode.GoesOn(in.Op) {
 			ways[i+1]++
 		}
 	}

@@ -1,5 +1,7 @@
 package fold
 
+import "tandem/rcode"
+
 // course is where a run goes on behind an instruction, as far as is known: nowhere, at the next one, where it jumps to, or at any of these.
 type course int
 
@@ -60,7 +62,7 @@ func (s *study) look(i int) {
 	in := s.Ins[i]
 	var held []thing
 	isReady := true
-	for _, r := range read(in) {
+	for _, r := range rcode.Read(in) {
 		o := s.asked(s.ahead(i, r))
 		if !s.isUser[i] {
 			s.users[o] = append(s.users[o], i)
@@ -97,7 +99,7 @@ func (s *study) goOn(i int, c course) {
 		s.goTo(i, i+1)
 	}
 	if fresh&aside != 0 {
-		s.goTo(i, target(s.Ins[i]))
+		s.goTo(i, *rcode.Place(&s.Ins[i]))
 	}
 }
 

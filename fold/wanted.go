@@ -4,6 +4,7 @@ import (
 	"slices"
 
 	"tandem/api"
+	"tandem/rcode"
 )
 
 // workOut puts what is known in the place of what works it out, and leaves out what is not reached, or not wanted.
@@ -33,7 +34,7 @@ func (s *study) turned(i int) api.RIns {
 		return api.RIns{}
 	case in.Op == api.RIf && goes == aside:
 		return api.RIns{Op: api.RJump, A: in.B}
-	case mayExit(in) && goes == 0:
+	case rcode.MayExit(in.Op) && goes == 0:
 		return api.RIns{Op: api.RExit, E: in.E}
 	case s.isWorkedOut(i):
 		return api.RIns{Op: api.RConst, A: in.A}
@@ -60,8 +61,8 @@ func (s *study) wants() *wants {
 		w.turned = append(w.turned, in)
 		if in.Op != 0 && !isBare(in) {
 			w.isWanted[i] = true
-			w.want(i, read(in)...)
-			if mayExit(in) {
+			w.want(i, rcode.Read(in)...)
+			if rcode.MayExit(in.Op) {
 				w.wantExit(i, in.E)
 			}
 		}
@@ -95,7 +96,7 @@ func (w *wants) add(origin int) {
 // follow adds what a wanted origin wants.
 func (w *wants) follow(origin int) {
 	if origin < len(w.Ins) {
-		w.want(origin, read(w.turned[origin])...)
+		w.want(origin, rcode.Read(w.turned[origin])...)
 		return
 	}
 	m := w.met(origin)

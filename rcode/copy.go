@@ -1,4 +1,4 @@
-package fold
+package rcode
 
 import (
 	"slices"
@@ -6,8 +6,8 @@ import (
 	"tandem/api"
 )
 
-// copied is code in new memory.
-func copied(c api.Code) api.Code {
+// Copied is code in new memory.
+func Copied(c api.Code) api.Code {
 	c.Ins, c.Raws, c.Names = slices.Clone(c.Ins), slices.Clone(c.Raws), slices.Clone(c.Names)
 	c.Consts = copiedData(c.Consts)
 	c.Exits = slices.Clone(c.Exits)
