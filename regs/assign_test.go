@@ -64,6 +64,9 @@ func TestRefused(t *testing.T) {
 		is("not sound, or with maps", false, ps, c, 8)
 	}
 	c := copyOf(plain)
+	c.Ins, c.Maps = []api.RIns{in(api.RReturn)}, [][]int{{}}
+	is("one map", false, ps, c, 8)
+	c = copyOf(plain)
 	c.Maps = [][]int{}
 	is("maps of nothing", true, ps, c, 8)
 	c.Slots = 1
@@ -145,6 +148,58 @@ func TestFits(t *testing.T) {
 			if len(got.Maps[i]) != n {
 				t.Errorf("%s: at %d: %v", what, i, got.Maps[i])
 			}
+		}
+	}
+}
+
+// TestMovesSaved: things that are moved share a register, where they may, and nothing is moved then.
+func TestMovesSaved(t *testing.T) {
+	ps := roomy(t, 2)
+	for what, r := range map[string]struct {
+		ins  []api.RIns
+		want int // how many RMoves stay
+	}{
+		"one after another":            {[]api.RIns{in(api.RNew, 5, 0), in(api.RMove, 6, 5), in(api.RMove, 7, 6), in(api.RMove, 8, 7), in(api.RReturn, 8)}, 0},
+		"from an argument":             {[]api.RIns{in(api.RMove, 5, 1), in(api.RMove, 6, 5), in(api.RReturn, 6)}, 0},
+		"to an argument":               {[]api.RIns{in(api.RNew, 5, 1), in(api.RMove, 1, 5), in(api.RNew, 6, 0), in(api.RNew, 7, 6), in(api.RNew, 8, 7), in(api.RNew, 9, 8), in(api.RNew, 10, 9), in(api.RSave, 10, 1), in(api.RReturn, 1)}, 0},
+		"raw numbers":                  {[]api.RIns{exits(1, in(api.RUnbox, 5, 0)), in(api.RMove, 6, 5), in(api.RBox, 7, 6), in(api.RReturn, 7)}, 0},
+		"an argument's register again": {[]api.RIns{exits(1, in(api.RUnbox, 0, 0)), in(api.RMove, 5, 0), in(api.RBox, 6, 5), in(api.RReturn, 6)}, 0},
+		"a register above again":       {[]api.RIns{in(api.RFree, 2, 1), in(api.RNew, 3, 2), exits(1, in(api.RUnbox, 2, 0)), in(api.RMove, 5, 2), in(api.RBox, 6, 5), in(api.RSave, 3, 6), in(api.RReturn, 6)}, 0},
+		"both are wanted":              {[]api.RIns{in(api.RNew, 5, 0), in(api.RMove, 6, 5), in(api.RNew, 5, 1), in(api.RSave, 5, 6), in(api.RReturn, 6)}, 1},
+		"into a row":                   {[]api.RIns{in(api.RMove, 50, 0), in(api.RMove, 51, 1), in(api.RMove, 52, 0), in(api.RTail, 50, 2)}, 3},
+		"back in a loop":               {[]api.RIns{in(api.RFree, 5, 0), exits(1, in(api.RCar, 6, 5)), in(api.RMove, 5, 6), in(api.RIf, 5, 1), in(api.RReturn, 5)}, 0},
+		"to itself":                    {[]api.RIns{in(api.RMove, 0, 0), in(api.RReturn, 0)}, 0},
+		"to where nobody wants it":     {[]api.RIns{in(api.RMove, 5, 0), in(api.RReturn, 1)}, 0},
+	} {
+		got := alone(t, what, ps, small(60, r.ins...), 8)
+		if count(got, api.RMove) > r.want || got.Slots > 0 || len(got.Ins) > len(r.ins) {
+			t.Errorf("%s: %s", what, told(got))
+		}
+	}
+}
+
+// TestLoopsFirst: what is wanted in a loop stays in registers; what is wanted ahead of it and behind it alone does not, though that is oftener.
+func TestLoopsFirst(t *testing.T) {
+	ps := roomy(t, 2)
+	var ins []api.RIns
+	for r := range 15 { // 20 to 22 are wanted in the loop
+		ins = append(ins, in(api.RFree, 20+r, r%3), in(api.RNew, 20+r, 20+r))
+	}
+	for r := 3; r < 14; r++ {
+		ins = append(ins, in(api.RSave, 20+r, 21+r), in(api.RSave, 20+r, 21+r))
+	}
+	ins = append(ins, in(api.RRaw, 5, 0), in(api.RRaw, 6, 1), in(api.RRaw, 7, 2))
+	head := len(ins)
+	ins = append(ins, in(api.RSave, 20, 21), in(api.RSave, 21, 22), in(api.RSave, 22, 20), in(api.RLess, 8, 7, 5), exits(1, in(api.RAdd, 5, 5, 6)), in(api.RIf, 8, head), in(api.RBox, 10, 5))
+	for r := 3; r < 14; r++ {
+		ins = append(ins, in(api.RSave, 20+r, 21+r), in(api.RSave, 20+r, 21+r))
+	}
+	c := small(60, append(ins, in(api.RSave, 34, 20), in(api.RSave, 20, 10), in(api.RReturn, 23))...)
+	for _, n := range []int{10, 11, 12, 13} {
+		got := alone(t, "a loop", ps, c, n)
+		back := slices.IndexFunc(got.Ins, func(x api.RIns) bool { return x.Op == api.RIf })
+		if inLoop := (api.Code{Ins: got.Ins[got.Ins[back].B:back]}); count(inLoop, api.RFill) > 0 || count(inLoop, api.RSpill) > 0 || got.Slots == 0 {
+			t.Errorf("%d registers: %s", n, told(got))
 		}
 	}
 }

@@ -85,3 +85,66 @@ func TestLongLive(t *testing.T) {
 		t.Errorf("%d are wanted", len(got[1999]))
 	}
 }
+
+// runLong tells whether long code comes to the same with few registers; what its maps say is not asked.
+func runLong(t *testing.T, what string, c api.Code) {
+	t.Helper()
+	ps := roomy(t, 2)
+	for _, n := range []int{8, 64} {
+		got, ok := regs.Assign(ps, c, n)
+		if !ok || !ir.Sound(ps, got) {
+			t.Fatalf("%s: not taken, or not sound", what)
+		}
+		ends := map[string]int{}
+		for seed := uint64(1); seed < 40; seed += 3 {
+			was, is := worldOf(ps, c, seed, 2), worldOf(ps, got, seed, 2)
+			if seed%2 == 0 { // then it is false
+				was.set(1, 2)
+				is.set(1, 2)
+			}
+			want, end := was.run(10*many), is.run(40*many)
+			if want != end {
+				t.Fatalf("%s, seed %d: %s, not %s", what, seed, end, want)
+			}
+			ends[firstWord(want)]++
+		}
+		if ends["returns"] < 10 {
+			t.Errorf("%s: %v", what, ends)
+		}
+	}
+}
+
+// TestOutOfPatience: P17.1: code in which there is more to look at than is looked at comes to the same all the same.
+func TestOutOfPatience(t *testing.T) {
+	// Which kind it is that is moved is asked from too far, too often; it is moved once more then.
+	either := func(at, raw int) []api.RIns {
+		return []api.RIns{in(api.RIf, 1, at+3), in(api.RRaw, 8, raw), in(api.RJump, at+4), in(api.RFree, 8, raw)}
+	}
+	c := small(9, either(0, 1)...)
+	for i := range many {
+		c.Ins = append(c.Ins, in(api.RMove, 2+i%6, 8))
+	}
+	c.Ins = append(c.Ins, either(len(c.Ins), 2)...)
+	last := len(c.Ins)
+	c.Ins = append(c.Ins, in(api.RMove, 4, 8), in(api.RMove, 7, 8), in(api.RIf, 1, last+5), in(api.RBox, 2, 4), in(api.RReturn, 2), in(api.RReturn, 7))
+	runLong(t, "moves from far", c)
+
+	// More things are wanted for longer than is looked at: first those that are put in loops, arguments then. The last ones hold all others.
+	const things = 300
+	c = small(things+10, in(api.RFree, things+2, 0))
+	for r := range things {
+		c.Ins = append(c.Ins, in(api.RFree, r+2, r%3), in(api.RNew, r+2, r+2))
+	}
+	for i := range many {
+		x := in(api.RMove, things+3+i%5, things+2)
+		if i < 4 {
+			x = in(api.RIf, 2, 1) // a box is not false
+		}
+		c.Ins = append(c.Ins, x)
+	}
+	for r := range things - 1 {
+		c.Ins = append(c.Ins, in(api.RSave, r+2, r+3))
+	}
+	c.Ins = append(c.Ins, in(api.RNew, things+2, 0), in(api.RNew, things+3, 1), in(api.RSave, things+1, things+2), in(api.RSave, things, things+3), in(api.RReturn, 2))
+	runLong(t, "many things", c)
+}

@@ -48,6 +48,7 @@ func TestMixed(t *testing.T) {
 		"moved, and both read":           {either(3), row(in(api.RMove, 4, 3)), first(4), row(in(api.RNew, 5, 9), in(api.RSave, 5, 5)), ends(3)},
 		"nothing at first":               {row(in(api.RIf, 0, 5), in(api.RRaw, 3, 1), in(api.RJump, 5)), row(in(api.RMove, 4, 0), in(api.RJump, 5)), row(in(api.RIf, 0, -3), in(api.RBox, 9, 3), in(api.RReturn, 9), in(api.RReturn, 0))},
 		"in a loop":                      {either(3), either(4), row(in(api.RGlobal, 8), in(api.RMove, 5, 3), in(api.RMove, 3, 4), in(api.RMove, 4, 5), in(api.RNew, 7, 8), in(api.RSetGlo, 7), in(api.RCar, 8, 8), in(api.RIf, 8, 8)), ends(3)},
+		"from an argument":               {row(in(api.RIf, 0, 3), in(api.RRaw, 3, 1), in(api.RJump, 4), in(api.RMove, 3, 0)), row(in(api.RMove, 4, 3)), ends(4)},
 		"moved where nobody asks for it": {either(3), row(in(api.RMove, 4, 3), in(api.RMove, 5, 4)), ends(3)},
 	} {
 		for _, more := range []int{0, 3, 5, 6, 7, 9, 20} {
@@ -87,4 +88,44 @@ func placed(part []api.RIns, at, ahead int) []api.RIns {
 		}
 	}
 	return part
+}
+
+// TestMixedAtFirst: what may be moved before it was put gets something at the beginning; that takes no register that holds an argument, and asks for constants and raw numbers that may not be there.
+func TestMixedAtFirst(t *testing.T) {
+	for _, n := range []int{8, 9, 12} {
+		for args := 1; args <= n-4; args++ {
+			ps := roomy(t, args)
+			for more := range 24 {
+				var ins []api.RIns
+				for r := range more {
+					ins = append(ins, in(api.RFree, 50+r, r%3))
+				}
+				at := len(ins)
+				ins = append(ins, in(api.RIf, 0, at+3), exits(1, in(api.RUnbox, 40, 0)), in(api.RJump, at+4), in(api.RFree, 40, 0), in(api.RMove, 41, 40), in(api.RMove, 42, 41))
+				for r := range more + args - 1 { // not the register on which the way hangs
+					from := 50 + r
+					if r >= more {
+						from = 1 + r - more
+					}
+					ins = append(ins, in(api.RNew, from, from), in(api.RSave, from, from))
+				}
+				last := len(ins)
+				ins = append(ins, in(api.RIf, 0, last+3), in(api.RBox, 44, 42), in(api.RReturn, 44), in(api.RReturn, 42))
+				c := small(80, ins...)
+				c.Consts, c.Raws = nil, nil
+				c.Exits[0], c.Exits[1] = selfExit(args), selfExit(args)
+				c.Exits = c.Exits[:2]
+				alone(t, "at first", ps, c, n)
+			}
+		}
+	}
+}
+
+// selfExit is an exit that reads no register.
+func selfExit(args int) api.Exit {
+	f := api.Frame{Proto: 1, Self: api.Loc{Kind: api.InSelf}}
+	for range args {
+		f.Slots = append(f.Slots, f.Self)
+	}
+	return api.Exit{Frames: []api.Frame{f}}
 }

@@ -31,7 +31,7 @@ func assigned(t testing.TB, ps []api.Proto, c api.Code, n int) api.Code {
 		t.Fatalf("not at the same place, or too many registers, or no maps: %s\nof %s", told(got), told(c))
 	case len(got.Exits) != len(c.Exits) || !slices.Equal(got.Names, c.Names):
 		t.Fatalf("other exits, or names: %s\nof %s", told(got), told(c))
-	case !slices.Equal(got.Raws[:len(c.Raws)], c.Raws) || !reflect.DeepEqual(got.Consts[:len(c.Consts)], c.Consts):
+	case !slices.Equal(got.Raws[:len(c.Raws)], c.Raws) || !slices.EqualFunc(got.Consts[:len(c.Consts)], c.Consts, sameDatum):
 		t.Fatalf("other raw numbers, or constants: %s\nof %s", told(got), told(c))
 	}
 	for i, live := range regs.Live(got) {
@@ -150,6 +150,8 @@ func feeds(d *dice, ps []api.Proto, i int) []api.Feed {
 	}
 	return all
 }
+
+func sameDatum(a, b api.Datum) bool { return reflect.DeepEqual(a, b) }
 
 // copyOf is code in new memory.
 func copyOf(c api.Code) api.Code {

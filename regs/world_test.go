@@ -103,13 +103,13 @@ func (w *world) anyWords(d *dice, n int) []uint64 {
 
 func (w *world) anyWord(d *dice) uint64 {
 	switch d.below(32) {
-	case 0, 1:
-		return pick[uint64](d, 2, 2, 6, 10, 14, 18, 65<<8|22)
-	case 2:
+	case 0, 1, 2, 3:
+		return pick[uint64](d, 2, 2, 2, 6, 10, 14, 18, 65<<8|22)
+	case 4:
 		return w.newBox(w.anyWord(d))
-	case 3:
+	case 5:
 		return w.sure(w.Cons(w.anyWord(d), w.anyWord(d)))
-	case 4, 5:
+	case 7:
 		n := d.below(len(w.ps))
 		return w.closure(n, w.anyWords(d, w.ps[n].Free)...)
 	case 6:
